@@ -1,0 +1,1 @@
+"""Documents with choices of line breaks, and the sets of layouts that they stand for."""
