@@ -1,8 +1,8 @@
 """Documents: how they are built, and what can be asked of them."""
 
 from layoutsets.checks import is_name, is_plain, is_steps
-from layoutsets.errors import InvalidForm, InvalidName, InvalidSteps, InvalidText, NotADocument
-from layoutsets.nodes import INNER_NODES, OWN_VALUES, Node, filled_node, same_nodes, stacked_node
+from layoutsets.errors import HasHoles, InvalidForm, InvalidName, InvalidSteps, InvalidText, NotADocument
+from layoutsets.nodes import INNER_NODES, OWN_VALUES, Node, filled_node, same_nodes, shape_of, stacked_node
 
 
 class Doc:
@@ -43,7 +43,7 @@ class Doc:
     @property
     def form(self):
         """The tuple that tells how the document is built."""
-        return self.node.shape
+        return shape_of(self.node)
 
     @property
     def parts(self):
@@ -87,18 +87,24 @@ def hole(name):
     return Doc(Node("hole", (name,), ()))
 
 
-def _check_docs(things):
+def refuse_non_docs(things):
     """Refuse the first thing that is not a document."""
     for thing in things:
         if not isinstance(thing, Doc):
             raise NotADocument(thing)
 
 
+def refuse_holes(doc):
+    """Refuse a document with holes."""
+    if doc.holes:
+        raise HasHoles(doc.holes)
+
+
 def joined(*docs, between=None):
     """The join of the documents, from the left, with between, if given, between each two."""
-    _check_docs(docs)
+    refuse_non_docs(docs)
     if between is not None:
-        _check_docs([between])
+        refuse_non_docs([between])
     if not docs:
         return text("")
     whole = docs[0]
@@ -111,7 +117,7 @@ def joined(*docs, between=None):
 
 def either(first, *others):
     """The choice of the documents, from the left."""
-    _check_docs([first, *others])
+    refuse_non_docs([first, *others])
     whole = first
     for doc in others:
         whole = whole | doc
@@ -120,8 +126,8 @@ def either(first, *others):
 
 def filled(the_doc, **fillings):
     """The document with the holes of these names filled, all at once."""
-    _check_docs([the_doc])
-    _check_docs([fillings[name] for name in sorted(fillings)])
+    refuse_non_docs([the_doc])
+    refuse_non_docs([fillings[name] for name in sorted(fillings)])
     nodes = {name: doc.node for name, doc in fillings.items()}
     return Doc(filled_node(the_doc.node, nodes))
 

@@ -24,10 +24,16 @@ class Node:
         self.kind = kind
         self.own = own
         self.inner = inner
-        self.shape = (kind,) + own + tuple([part.shape for part in inner])
-        self.size = 1 + sum([part.size for part in inner])
         self.gaps = _gaps(kind, own, inner)
         self.broken, self.flat = _counts(kind, own, inner)
+        size, most = 1, self.broken
+        for part in inner:
+            size = size + part.size
+            if part.most > most:
+                most = part.most
+        self.size = size
+        self.most = most
+        self.settled = _is_settled(kind, self.flat, inner)
 
 
 def _gaps(kind, own, inner):
@@ -57,6 +63,36 @@ def _counts(kind, own, inner):
     if kind == "flattened":
         return first.flat, first.flat
     return first.broken, first.flat
+
+
+def _is_settled(kind, flat, inner):
+    """Whether each flat layout is surely a broken one, too."""
+    if kind in ("group", "flattened") or flat == 0:
+        return True
+    return kind != "break" and all([part.settled for part in inner])
+
+
+def inner_first(node):
+    """The nodes that it consists of, each once and behind those that it is built from."""
+    done = {}
+    todo = [node]
+    while todo:
+        top = todo[-1]
+        waiting = [part for part in top.inner if part not in done]
+        if waiting:
+            todo.extend(waiting)
+            continue
+        todo.pop()
+        done[top] = True
+    return list(done)
+
+
+def shape_of(node):
+    """The form of a node; nodes that occur several times share theirs."""
+    made = {}
+    for part in inner_first(node):
+        made[part] = (part.kind, *part.own, *[made[inner] for inner in part.inner])
+    return made[node]
 
 
 def same_nodes(one, other):

@@ -65,6 +65,125 @@ LAYOUTS = """
 ['a', '   b']
 """
 
+POINT_5 = """
+>>> from layoutsets.docs import line, text
+>>> from layoutsets.sets import LayoutSet
+>>> row = text("a") + line() + text("b")
+>>> list(LayoutSet(row.nested(2)).walk())
+[((0, "a"), (2, "b"))]
+
+>>> from layoutsets.docs import line, text
+>>> from layoutsets.sets import LayoutSet
+>>> row = text("a") + line() + text("b")
+>>> list(LayoutSet(row.group()).walk())
+[((0, "a"), (0, "b")), ((0, "a b"),)]
+"""
+
+SETS = """
+>>> from layoutsets.docs import line, text
+>>> from layoutsets.sets import LayoutSet
+>>> row = text("a") + line() + text("b")
+>>> list(LayoutSet(row.group().nested(2)).walk())
+[((0, 'a'), (2, 'b')), ((0, 'a b'),)]
+
+>>> from layoutsets.docs import text
+>>> from layoutsets.sets import LayoutSet
+>>> s = LayoutSet(text("a") | text("b"))
+>>> t = LayoutSet(text("b") | text("c"))
+>>> [len(s & t), len(s | t), list((s - t).walk())]
+[1, 3, [((0, 'a'),)]]
+
+>>> from layoutsets.docs import text
+>>> from layoutsets.sets import LayoutSet
+>>> s = LayoutSet(text("a") | text("b"))
+>>> s[2]
+raises OutOfRange(count=2)
+
+>>> from layoutsets.docs import hole
+>>> from layoutsets.sets import LayoutSet
+>>> LayoutSet(hole("x"))
+raises HasHoles(unfilled=('x',))
+
+>>> from layoutsets.docs import line
+>>> from layoutsets.sets import LayoutSet
+>>> len(LayoutSet(line(None).flattened()))
+0
+
+>>> from layoutsets.docs import line, text
+>>> from layoutsets.sets import LayoutSet
+>>> s = LayoutSet(text("a") + line().group())
+>>> LayoutSet(s.doc()) == s
+True
+"""
+
+ALIKE = """
+>>> from layoutsets.alike import parted
+>>> from layoutsets.docs import text
+>>> parted(text("a") + text("b"), text("ab"))
+None
+
+>>> from layoutsets.alike import parted
+>>> from layoutsets.docs import line
+>>> parted(line().group(), line())
+((0, ' '),)
+
+>>> from layoutsets.alike import always_alike
+>>> from layoutsets.docs import hole
+>>> always_alike(hole("x").nested(1).nested(2), hole("x").nested(3))
+None
+
+>>> from layoutsets.alike import always_alike
+>>> from layoutsets.docs import hole
+>>> always_alike(hole("x").group(), hole("x")) is None
+False
+
+>>> from layoutsets.alike import check_parting
+>>> from layoutsets.docs import hole, line
+>>> check_parting(hole("x").nested(1), hole("x"), ({"x": line()}, ((0, ""), (0, ""))))
+True
+
+>>> from layoutsets.alike import check_parting
+>>> from layoutsets.docs import hole, text
+>>> check_parting(hole("x").nested(1), hole("x"), ({"x": text("a")}, ((0, "a"),)))
+False
+"""
+
+COSTS = """
+>>> from layoutsets.costs import cost_of
+>>> cost_of(((0, "abc"), (2, "de")), width=3, column=1)
+(2, 2)
+
+>>> from layoutsets.costs import best
+>>> from layoutsets.docs import line, text
+>>> best(text("a") + line() + text("b"), width=3)
+((0, 'a'), (0, 'b'))
+
+>>> from layoutsets.costs import best
+>>> from layoutsets.docs import line, text
+>>> best((text("a") + line() + text("b")).group(), width=3)
+((0, 'a b'),)
+
+>>> from layoutsets.costs import best
+>>> from layoutsets.docs import line, text
+>>> best((text("ab") + line() + text("c")).group().nested(2), width=3)
+((0, 'ab'), (2, 'c'))
+
+>>> from layoutsets.costs import best
+>>> from layoutsets.docs import line, text
+>>> best(line(None).flattened(), width=9)
+raises NotFound()
+
+>>> from layoutsets.costs import best
+>>> from layoutsets.docs import hole
+>>> best(hole("x"), width=9)
+raises HasHoles(unfilled=('x',))
+
+>>> from layoutsets.costs import best
+>>> from layoutsets.docs import line, text
+>>> best(text("a"), width=-1)
+raises InvalidWidth(value=-1)
+"""
+
 
 class ExamplesTest(unittest.TestCase):
     def run_example(self, example):
@@ -98,6 +217,18 @@ class ExamplesTest(unittest.TestCase):
 
     def test_layouts(self):
         self.run_examples(LAYOUTS, 4)
+
+    def test_point_5(self):
+        self.run_examples(POINT_5, 2)
+
+    def test_sets(self):
+        self.run_examples(SETS, 6)
+
+    def test_alike(self):
+        self.run_examples(ALIKE, 6)
+
+    def test_costs(self):
+        self.run_examples(COSTS, 7)
 
 
 if __name__ == "__main__":

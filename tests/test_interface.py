@@ -3,7 +3,7 @@
 import inspect
 import unittest
 
-from layoutsets import docs, layouts
+from layoutsets import alike, costs, docs, layouts, sets
 
 SIGNATURES = {
     docs: {
@@ -12,6 +12,12 @@ SIGNATURES = {
     },
     layouts: {
         "check_layout": "(thing)", "joined_layout": "(x, y)", "moved": "(x, k)", "shown": "(layout, indent=0)",
+    },
+    alike: {
+        "parted": "(one, other)", "always_alike": "(one, other)", "check_parting": "(one, other, thing)",
+    },
+    costs: {
+        "cost_of": "(layout, *, width, column=0, indent=0)", "best": "(doc, *, width, column=0, indent=0)",
     },
 }
 
@@ -31,6 +37,17 @@ class InterfaceTest(unittest.TestCase):
         self.assertEqual(str(inspect.signature(docs.Doc.nested)), "(self, steps)")
         self.assertEqual(str(inspect.signature(docs.Doc.group)), "(self)")
         self.assertEqual(str(inspect.signature(docs.Doc.flattened)), "(self)")
+
+    def test_methods_of_sets(self):
+        self.assertEqual(sets.LayoutSet.__module__, "layoutsets.sets")
+        for name in ("__init__", "__len__", "__contains__", "__eq__", "__and__", "__or__", "__sub__", "__getitem__",
+                     "of", "rank", "walk", "within", "doc"):
+            self.assertIn(name, vars(sets.LayoutSet))
+        self.assertIsInstance(vars(sets.LayoutSet)["of"], classmethod)
+        signatures = {"__init__": "(self, doc)", "of": "(layouts)", "rank": "(self, layout)", "walk": "(self)",
+                      "within": "(self, other)", "doc": "(self)"}
+        for name, told in signatures.items():
+            self.assertEqual(str(inspect.signature(getattr(sets.LayoutSet, name))), told, name)
 
     def test_properties(self):
         for name in ("form", "parts", "holes", "ways", "flat_ways"):

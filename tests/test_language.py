@@ -102,6 +102,15 @@ class LanguageTest(unittest.TestCase):
         for place, node in self.nodes(ast.ClassDef):
             self.assertEqual(node.decorator_list, [], place)
 
+    def test_l5_classes_with_items(self):
+        for place, node in self.nodes(ast.ClassDef):
+            own = {method.name: method for method in node.body if isinstance(method, ast.FunctionDef)}
+            if "__getitem__" in own:
+                self.assertIn("__iter__", own, place)
+                self.assertEqual([step.__class__ for step in own["__iter__"].body], [ast.Raise], place)
+            for name in {"__and__", "__or__", "__sub__", "__add__", "__eq__", "__contains__", "__getitem__"} & set(own):
+                self.assertEqual(len(own[name].args.args), 2, place)
+
     def test_l6_statements(self):
         for place, node in self.nodes(ast.stmt):
             self.assertIsInstance(node, STATEMENTS, place)
@@ -156,6 +165,13 @@ class LanguageTest(unittest.TestCase):
         self.assertEqual(assigned & methods, set())
         for place, node in self.nodes(ast.Attribute):
             self.assertIn(node.attr, METHODS | methods | assigned, place)
+
+    def test_l18_attributes_are_no_properties(self):
+        properties = {own.name for _, node in self.nodes(ast.ClassDef) for own in node.body
+                      if isinstance(own, ast.FunctionDef) and own.decorator_list}
+        for place, node in self.nodes(ast.Attribute):
+            if isinstance(node.ctx, ast.Store):
+                self.assertNotIn(node.attr, properties, place)
 
     def test_l20_is(self):
         for place, node in self.nodes(ast.Compare):
