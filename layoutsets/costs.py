@@ -9,6 +9,8 @@ ENTER = 0
 TURN = 1
 MERGE = 2
 
+PAGE = 50
+
 
 def cost_of(layout, *, width, column=0, indent=0):
     """The excess of the layout at the place, and the number of its lines."""
@@ -29,8 +31,8 @@ def best(doc, *, width, column=0, indent=0):
     search = Search(width, column, indent)
     search.run(doc.node)
     ending = min(list(search.states.values()))
-    rows, last = ending[2], ending[3:]
-    return rows + (last,)
+    full, rows, own, begun = ending[2:]
+    return (*[row for page in full for row in page], *rows, (own, begun))
 
 
 def _refuse_wrong_numbers(width, column, indent):
@@ -46,15 +48,19 @@ class Search:
     """The states that are reached when a document is written from its beginning on, in all its ways.
 
     A state is a tuple: the excess up to here, the number of lines, the finished lines, and the indent and
-    the string of the line that is begun. For each column at which that line ends only the least state is
-    kept, and one for all columns from the width on: whatever follows costs the same behind two such states
-    and does not turn their order, so that only the least one can come to be the best layout.
+    the string of the line that is begun. The finished lines are in pages of as many lines each and a last one
+    that is not full, so that a new line does not copy them all; in states with as many lines their order is
+    that of the lines themselves.
+
+    For each column at which the line that is begun ends only the least state is kept, and one for all columns
+    from the width on: whatever follows costs the same behind two such states and does not turn their order,
+    so that only the least one can come to be the best layout.
     """
 
     def __init__(self, width, column, indent):
         self.limit = width
         self.left = indent
-        self.states = {min(column, width): (max(0, column - width), 1, (), 0, "")}
+        self.states = {min(column, width): (max(0, column - width), 1, (), (), 0, "")}
         self.kept = []
         self.todo = []
 
@@ -74,17 +80,20 @@ class Search:
         """Write a node, or note what is to be done for it."""
         if (node.flat if flat else node.broken) == 0:
             self.states = {}
-        elif node.kind == "text" or node.kind == "break" and flat:
-            self.states = _written(self.states, node.own[0], self.limit)
-        elif node.kind == "break":
+            return
+        # All joins and nested ones on the way have layouts, too.
+        while node.kind in ("join", "nested"):
+            if node.kind == "join":
+                self.todo.append((ENTER, node.inner[1], flat, steps))
+            else:
+                steps = steps + node.own[0]
+            node = node.inner[0]
+        if node.kind == "break" and not flat:
             self.states = _broken(self.states, steps, self.left, self.limit)
-        elif node.kind == "join":
-            self.todo.append((ENTER, node.inner[1], flat, steps))
-            self.todo.append((ENTER, node.inner[0], flat, steps))
+        elif node.kind in ("text", "break"):
+            self.states = _written(self.states, node.own[0], self.limit)
         elif node.kind == "choice":
             self.fork((ENTER, node.inner[0], flat, steps), (ENTER, node.inner[1], flat, steps))
-        elif node.kind == "nested":
-            self.todo.append((ENTER, node.inner[0], flat, steps + node.own[0]))
         elif node.kind == "flattened":
             self.todo.append((ENTER, node.inner[0], True, steps))
         elif flat or node.inner[0].settled:
@@ -112,9 +121,9 @@ def _written(states, string, width):
     if not string:
         return states
     made = {}
-    for column, (excess, lines, rows, own, begun) in states.items():
+    for column, (excess, lines, full, rows, own, begun) in states.items():
         end = column + len(string)
-        state = (excess + max(0, end - width), lines, rows, own, begun + string)
+        state = (excess + max(0, end - width), lines, full, rows, own, begun + string)
         at = min(end, width)
         if at not in made or state < made[at]:
             made[at] = state
@@ -123,10 +132,12 @@ def _written(states, string, width):
 
 def _broken(states, steps, indent, width):
     """The states once a new line has been begun behind them."""
-    excess, lines, rows, own, begun = min(list(states.values()))
+    excess, lines, full, rows, own, begun = min(list(states.values()))
+    rows = rows + ((own, begun),)
+    if len(rows) == PAGE:
+        full, rows = full + (rows,), ()
     column = indent + steps
-    state = (excess + max(0, column - width), lines + 1, rows + ((own, begun),), steps, "")
-    return {min(column, width): state}
+    return {min(column, width): (excess + max(0, column - width), lines + 1, full, rows, steps, "")}
 
 
 def _merged(one, other):
@@ -151,6 +162,6 @@ def _pruned(states):
         if least is None or state < least:
             least = state
             kept[column] = state
-        elif state[:4] == least[:4] and state[4].startswith(least[4]):
+        elif state[:5] == least[:5] and state[5].startswith(least[5]):
             kept[column] = state
     return kept

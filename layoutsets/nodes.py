@@ -87,6 +87,14 @@ def inner_first(node):
     return list(done)
 
 
+def last_uses(ordered):
+    """Of nodes that stand inner first, the place of the last one that each is built into.
+
+    What has been worked out for a node is not needed behind it, and there may be many and large ones.
+    """
+    return {part: k for k, whole in enumerate(ordered) for part in whole.inner}
+
+
 def shape_of(node):
     """The form of a node; nodes that occur several times share theirs."""
     made = {}

@@ -4,7 +4,7 @@ from layoutsets.checks import MOST_STEPS, is_whole
 from layoutsets.docs import Doc, refuse_holes, refuse_non_docs, text
 from layoutsets.errors import NotALayoutSet, NotFound, OutOfRange, TooLarge
 from layoutsets.layouts import check_layout, joined_rows, moved_rows, refuse_non_layouts
-from layoutsets.nodes import Node, inner_first
+from layoutsets.nodes import Node, inner_first, last_uses
 
 MOST_WAYS = 5000
 
@@ -109,14 +109,13 @@ def is_large(doc):
 def _layouts_of(node):
     """The layouts of a node without holes, each as often as it has ways."""
     ordered = inner_first(node)
-    last_use = {part: k for k, whole in enumerate(ordered) for part in whole.inner}
+    last_use = last_uses(ordered)
     made = {}
     for k, whole in enumerate(ordered):
         made[whole] = _ways_of(whole, made)
         for part in whole.inner:
-            # What is not needed again is dropped: there may be many long lists.
-            if last_use[part] == k and part in made:
-                del made[part]
+            if last_use[part] == k:
+                made.pop(part, None)
     broken, steps, _ = made[node]
     return _all_moved(broken, steps)
 

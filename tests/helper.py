@@ -39,6 +39,14 @@ def not_sets():
     return [thing for thing in anything() if not isinstance(thing, LayoutSet)]
 
 
+def not_contexts():
+    """Values that are not contexts."""
+    found = [*anything(), (0, 0), (0, 0, 0, 0), [0, 0, 0], ((0, 0, 0),), "abc"]
+    for wrong in not_whole():
+        found += [(wrong, 0, 0), (0, wrong, 0), (0, 0, wrong)]
+    return found
+
+
 def not_whole():
     """Values that are not integers from 0 on."""
     return [thing for thing in anything() if not isinstance(thing, int) or isinstance(thing, bool) or thing < 0]
@@ -71,19 +79,19 @@ def expect(case, error, fields, call, *args, **named):
         case.assertTrue(same_kind(found, value), (field, found, value))
 
 
-def random_form(source, depth, names=NAMES, most_steps=40):
-    """Some form, at most this deep, with holes of these names."""
+def random_form(source, depth, names=NAMES, most_steps=40, strings=("", "a", "b c", "~"), flats=(None, "", " ", "ab")):
+    """Some form, at most this deep, with holes of these names, texts of these strings and breaks of these flat ones."""
     kinds = ["text", "break"] + ["hole"] * (len(names) > 0)
     kinds += ["join", "choice", "nested", "group", "flattened"] * (depth > 0)
     kind = source.choice(kinds)
     if kind == "text":
-        return (kind, source.choice(["", "a", "b c", "~"]))
+        return (kind, source.choice(strings))
     if kind == "break":
-        return (kind, source.choice([None, "", " ", "ab"]))
+        return (kind, source.choice(flats))
     if kind == "hole":
         return (kind, source.choice(names))
     own = (source.randrange(most_steps + 1),) if kind == "nested" else ()
-    inner = [random_form(source, depth - 1, names, most_steps) for _ in range(INNER[kind])]
+    inner = [random_form(source, depth - 1, names, most_steps, strings, flats) for _ in range(INNER[kind])]
     return (kind, *own, *inner)
 
 
@@ -165,6 +173,33 @@ def plain_cost(layout, width, column=0, indent=0):
         end = (column if at == 0 else indent + own) + len(string)
         excess += end - width if end > width else 0
     return (excess, len(layout))
+
+
+def plain_fits(layout, context):
+    """Whether a layout fits, by the words of point 9."""
+    x, y, s = context
+    lengths = [len(string) for _, string in layout]
+    if len(layout) == 1:
+        return lengths[0] + s <= x
+    if lengths[0] > x:
+        return False
+    for (indent, _), length in list(zip(layout, lengths))[1:-1]:
+        if indent + length > y:
+            return False
+    return layout[-1][0] + lengths[-1] + s <= y
+
+
+def plain_fewest(layouts, context):
+    """The least number of lines of one of the layouts that fits, or None."""
+    counts = [len(layout) for layout in layouts if plain_fits(layout, context)]
+    return min(counts) if counts else None
+
+
+def plain_front(layouts):
+    """The front of the layouts, by the words of point 11."""
+    pairs = {(max(indent + len(string) for indent, string in layout), len(layout)) for layout in layouts}
+    return sorted([one for one in pairs
+                   if not any(other != one and other[0] <= one[0] and other[1] <= one[1] for other in pairs)])
 
 
 def small_docs(seed, many=300, depth=5, most_ways=200):

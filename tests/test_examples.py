@@ -184,6 +184,106 @@ raises HasHoles(unfilled=('x',))
 raises InvalidWidth(value=-1)
 """
 
+CONTEXTS = r"""
+>>> from layoutsets.contexts import fits
+>>> fits(((0, "ab"), (1, "c")), (2, 3, 1))
+True
+
+>>> from layoutsets.contexts import fits
+>>> fits(((0, "ab"),), (2, 9, 1))
+False
+
+>>> from layoutsets.contexts import fewest
+>>> from layoutsets.docs import line, text
+>>> fewest((text("a") + line() + text("b")).group(), (2, 1, 0))
+2
+
+>>> from layoutsets.contexts import as_good
+>>> from layoutsets.docs import line, text
+>>> as_good((text("a") + line() + text("b")).group(), text("a b"))
+None
+
+>>> from layoutsets.contexts import as_good
+>>> from layoutsets.docs import line, text
+>>> as_good(text("a b"), (text("a") + line() + text("b")).group())
+(1, 1, 0)
+
+>>> from layoutsets.contexts import front
+>>> from layoutsets.docs import line, text
+>>> front((text("a") + line() + text("bc")).group())
+[(2, 2), (4, 1)]
+"""
+
+WRITING = r"""
+>>> from layoutsets.writing import written
+>>> from layoutsets.docs import line, text
+>>> written((text("a") + line(" ")).nested(2))
+'<2 ("a" + _" ")>'
+
+>>> from layoutsets.writing import written
+>>> from layoutsets.docs import line, text
+>>> written(text('say "hi"'))
+'"say \\"hi\\""'
+
+>>> from layoutsets.writing import read
+>>> read("(a | [!])").form
+('choice', ('hole', 'a'), ('group', ('break', None)))
+
+>>> from layoutsets.writing import read
+>>> read("(a + b")
+raises Unreadable(at=6)
+
+>>> from layoutsets.writing import read
+>>> read("<41 a>")
+raises Unreadable(at=2)
+"""
+
+DESK = r"""
+>>> from layoutsets.desk import Desk
+>>> from layoutsets.docs import hole, text
+>>> desk = Desk()
+>>> desk.put("body", text("x"))
+>>> desk.put("all", text("(") + hole("body") + text(")"))
+>>> desk.show("all")
+['(x)']
+
+>>> from layoutsets.desk import Desk
+>>> from layoutsets.docs import hole, text
+>>> desk = Desk()
+>>> desk.put("body", text("x"))
+>>> desk.put("all", text("(") + hole("body") + text(")"))
+>>> list(desk.order())
+['body', 'all']
+
+>>> from layoutsets.desk import Desk
+>>> from layoutsets.docs import hole, text
+>>> desk = Desk()
+>>> desk.put("a", hole("b"))
+>>> desk.put("b", hole("a"))
+>>> desk.whole("a")
+raises Circular(ring=('a', 'b'))
+
+>>> from layoutsets.desk import Desk
+>>> from layoutsets.docs import hole, text
+>>> desk = Desk()
+>>> desk.do(("put", "a", text("x")), ("drop", "b"))
+raises InvalidDeed(place=1)
+
+>>> from layoutsets.desk import Desk
+>>> from layoutsets.docs import hole, text
+>>> desk = Desk()
+>>> desk.do(("put", "a", text("x")), ("put", "b", hole("a")))
+>>> desk.undo()
+>>> desk.names
+()
+
+>>> from layoutsets.desk import Desk
+>>> from layoutsets.docs import hole, text
+>>> desk = Desk()
+>>> desk.set_width(1001)
+raises InvalidWidth(value=1001)
+"""
+
 
 class ExamplesTest(unittest.TestCase):
     def run_example(self, example):
@@ -229,6 +329,15 @@ class ExamplesTest(unittest.TestCase):
 
     def test_costs(self):
         self.run_examples(COSTS, 7)
+
+    def test_contexts(self):
+        self.run_examples(CONTEXTS, 6)
+
+    def test_writing(self):
+        self.run_examples(WRITING, 5)
+
+    def test_desk(self):
+        self.run_examples(DESK, 6)
 
 
 if __name__ == "__main__":

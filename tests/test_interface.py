@@ -3,7 +3,7 @@
 import inspect
 import unittest
 
-from layoutsets import alike, costs, docs, layouts, sets
+from layoutsets import alike, contexts, costs, desk, docs, layouts, sets, writing
 
 SIGNATURES = {
     docs: {
@@ -19,6 +19,10 @@ SIGNATURES = {
     costs: {
         "cost_of": "(layout, *, width, column=0, indent=0)", "best": "(doc, *, width, column=0, indent=0)",
     },
+    contexts: {
+        "fits": "(layout, context)", "fewest": "(doc, context)", "as_good": "(one, other)", "front": "(doc)",
+    },
+    writing: {"written": "(doc)", "read": "(string)"},
 }
 
 
@@ -49,9 +53,22 @@ class InterfaceTest(unittest.TestCase):
         for name, told in signatures.items():
             self.assertEqual(str(inspect.signature(getattr(sets.LayoutSet, name))), told, name)
 
+    def test_methods_of_desks(self):
+        self.assertEqual(desk.Desk.__module__, "layoutsets.desk")
+        for name in ("__len__", "__contains__", "__eq__", "__getitem__"):
+            self.assertIn(name, vars(desk.Desk))
+        signatures = {"put": "(self, name, doc)", "drop": "(self, name)", "do": "(self, *deeds)", "undo": "(self)",
+                      "set_width": "(self, value)", "whole": "(self, name)", "order": "(self)", "show": "(self, name)",
+                      "copy": "(self)"}
+        for name, told in signatures.items():
+            self.assertEqual(str(inspect.signature(vars(desk.Desk)[name])), told, name)
+        self.assertEqual(str(inspect.signature(desk.Desk)), "()")
+
     def test_properties(self):
         for name in ("form", "parts", "holes", "ways", "flat_ways"):
             self.assertIsInstance(vars(docs.Doc)[name], property, name)
+        for name in ("width", "names"):
+            self.assertIsInstance(vars(desk.Desk)[name], property, name)
 
 
 if __name__ == "__main__":

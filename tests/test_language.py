@@ -126,6 +126,19 @@ class LanguageTest(unittest.TestCase):
             if isinstance(node.func, ast.Name) and node.func.id in ("any", "all", "min", "max", "sum", "sorted"):
                 self.assertFalse([part for part in node.args if isinstance(part, ast.GeneratorExp)], place)
 
+    def test_l7_stars(self):
+        plain = (ast.Name, ast.Constant, ast.List, ast.Tuple, ast.Dict)
+        for place, node in self.nodes(ast.Call):
+            beside = [part for part in node.args if not isinstance(part, ast.Starred)]
+            named = [word for word in node.keywords if word.arg is None]
+            starred = [part.value for part in node.args if isinstance(part, ast.Starred)]
+            if named:
+                self.assertEqual(len(node.keywords), 1, place)
+            if named or starred:
+                for part in (*beside, *starred, *[word.value for word in node.keywords]):
+                    off_a_name = isinstance(part, ast.Attribute) and isinstance(part.value, ast.Name)
+                    self.assertTrue(off_a_name or isinstance(part, plain), place)
+
     def test_l8_l15_names(self):
         for place, node in self.nodes(ast.Name):
             if hasattr(builtins, node.id):

@@ -291,6 +291,21 @@ class LargeBestTest(LargeTest):
             self.check(inner, width, indent=3)
             self.check(outer, width, column=5)
 
+    def test_layouts_that_differ_in_a_line_far_down(self):
+        for many in (1, 2, 49, 50, 51, 52, 99, 100, 101, 150):
+            for at in {0, 1, 48, 49, 50, 51, many - 1} & set(range(many)):
+                same = [(1, "a")] * at
+                layouts = [((0, "a"), *same, (1, first), *[(1, then)] * (many - at - 1)) for first, then in ("ba", "ab")]
+                for doc in (LayoutSet.of(layouts).doc(), either(*[LayoutSet.of([layout]).doc() for layout in layouts])):
+                    self.assertEqual(best(doc, width=2), layouts[1])
+                    self.assertEqual(best(doc.group() + line(), width=0), (*layouts[1], (0, "")))
+
+    def test_each_line_with_a_choice(self):
+        doc = joined(*[text("b") | text("a") for _ in range(30)], between=line())
+        self.assertEqual(self.quick(best, doc, width=0), ((0, "a"),) * 30)
+        frame = joined(*[hole("x") for _ in range(10)], between=line())
+        self.assertEqual(self.quick(best, filled(frame, x=doc), width=1), ((0, "a"),) * 300)
+
     def test_what_sets_give_in_many_holes(self):
         frame = joined(*[hole("x") for _ in range(75)])
         lines = LayoutSet.of(random_layouts(57, 150, lines=5, indents=60)).doc()

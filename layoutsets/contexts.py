@@ -1,0 +1,98 @@
+"""Contexts: which layouts have room in them, and documents that are compared by that."""
+
+from layoutsets.checks import is_whole
+from layoutsets.errors import InvalidPlace, TooLarge
+from layoutsets.layouts import refuse_non_layouts
+from layoutsets.sets import LayoutSet
+
+MOST_LAYOUTS = 500
+
+
+def fits(layout, context):
+    """Whether each line of the layout has room in the context."""
+    refuse_non_layouts([layout])
+    _refuse_non_context(context)
+    return _has_room(layout, context)
+
+
+def fewest(doc, context):
+    """The least number of lines of a layout of the document that fits, or None."""
+    rows = LayoutSet(doc).rows
+    _refuse_non_context(context)
+    return min([len(row) for row in rows if _has_room(row, context)], default=None)
+
+
+def as_good(one, other):
+    """None if one is as good as other, otherwise the least context that shows that it is not."""
+    mine, yours = LayoutSet(one), LayoutSet(other)
+    if len(mine) > MOST_LAYOUTS or len(yours) > MOST_LAYOUTS:
+        raise TooLarge()
+    rivals = _needs_of(mine.rows)
+    contexts = [_least_context(need, rivals) for need in _needs_of(yours.rows)]
+    return min([context for context in contexts if context is not None], default=None)
+
+
+def front(doc):
+    """The breadths and numbers of lines of the layouts, ascending, without those that another one makes needless."""
+    kept = []
+    for breadth, lines in sorted(set([(max(_ends(row)), len(row)) for row in LayoutSet(doc).rows])):
+        if not kept or lines < kept[-1][1]:
+            kept.append((breadth, lines))
+    return kept
+
+
+def _refuse_non_context(thing):
+    """Refuse what is no context."""
+    if not isinstance(thing, tuple) or len(thing) != 3 or not all([is_whole(number) for number in thing]):
+        raise InvalidPlace(thing)
+
+
+def _ends(layout):
+    """How far each line reaches to the right."""
+    return [indent + len(string) for indent, string in layout]
+
+
+def _has_room(layout, context):
+    """Whether what is known to be a layout fits."""
+    first_room, other_room, behind = context
+    ends = _ends(layout)
+    ends[-1] = ends[-1] + behind
+    return ends[0] <= first_room and max(ends[1:], default=0) <= other_room
+
+
+def _needs_of(rows):
+    """All that decides where the layouts fit, each once: see _need_of."""
+    return sorted(set([_need_of(row) for row in rows]))
+
+
+def _need_of(layout):
+    """The number of lines, and how far the first one, those between and the last one reach."""
+    ends = _ends(layout)
+    if len(ends) == 1:
+        return 1, ends[0], 0, ends[0]
+    return len(ends), ends[0], max(ends[1:-1], default=0), ends[-1]
+
+
+def _least_context(need, rivals):
+    """The least context in which a layout with this need fits, and none with a rival need and as few lines; or None.
+
+    Less room never makes a rival fit. So it is the least room that counts: for the first line the least one
+    of all, for the others the least one that what follows the last line permits.
+    """
+    lines, first, middle, last = need
+    rivals = [rival for rival in rivals if rival[0] <= lines and rival[1] <= first]
+    if lines == 1:
+        return None if rivals else (first, 0, 0)
+    behind = max([0] + [first - rival[1] + 1 for rival in rivals if rival[0] == 1])
+    rivals = [rival for rival in rivals if rival[0] > 1]
+    # With the room that the lines between need, what follows must be so much that it has none behind the rivals.
+    more = max([behind] + [middle - rival[3] + 1 for rival in rivals if rival[2] <= middle])
+    if last + more <= middle:
+        return first, middle, more
+    # Otherwise what follows fills the room to its end, so that only a longer last line can keep a rival out,
+    # or a longer line between.
+    behind = max(behind, middle - last + 1)
+    room = last + behind
+    if any([rival[2] <= room and rival[3] <= last for rival in rivals]):
+        return None
+    return first, room, behind
