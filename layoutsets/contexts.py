@@ -68,31 +68,24 @@ def _needs_of(rows):
 def _need_of(layout):
     """The number of lines, and how far the first one, those between and the last one reach."""
     ends = _ends(layout)
-    if len(ends) == 1:
-        return 1, ends[0], 0, ends[0]
     return len(ends), ends[0], max(ends[1:-1], default=0), ends[-1]
 
 
 def _least_context(need, rivals):
     """The least context in which a layout with this need fits, and none with a rival need and as few lines; or None.
 
-    Less room never makes a rival fit. So it is the least room that counts: for the first line the least one
-    of all, for the others the least one that what follows the last line permits.
+    A rival that does not fit does not fit with less room either. So the room is the least one: for the first
+    line what that needs, and for the others what they need with the least that can follow.
     """
     lines, first, middle, last = need
     rivals = [rival for rival in rivals if rival[0] <= lines and rival[1] <= first]
     if lines == 1:
         return None if rivals else (first, 0, 0)
+    # One line is kept out by what follows it alone.
     behind = max([0] + [first - rival[1] + 1 for rival in rivals if rival[0] == 1])
-    rivals = [rival for rival in rivals if rival[0] > 1]
-    # With the room that the lines between need, what follows must be so much that it has none behind the rivals.
-    more = max([behind] + [middle - rival[3] + 1 for rival in rivals if rival[2] <= middle])
-    if last + more <= middle:
-        return first, middle, more
-    # Otherwise what follows fills the room to its end, so that only a longer last line can keep a rival out,
-    # or a longer line between.
-    behind = max(behind, middle - last + 1)
-    room = last + behind
-    if any([rival[2] <= room and rival[3] <= last for rival in rivals]):
+    room = max(middle, last + behind)
+    rivals = [rival for rival in rivals if rival[0] > 1 and rival[2] <= room]
+    # Where the last line of a rival is not longer, that one fits as well, also if there is more room and more follows.
+    if any([rival[3] <= last for rival in rivals]):
         return None
-    return first, room, behind
+    return first, room, max([behind] + [room - rival[3] + 1 for rival in rivals])

@@ -79,6 +79,11 @@ class PutTest(unittest.TestCase):
         for thing in [*NOT_NAMES, "c"]:
             expect(self, NoSuchName, {"name": thing}, lambda: desk[thing])
 
+    def test_it_is_not_walked_over_directly(self):
+        for desk in (Desk(), desk_of(a=A)):
+            with self.assertRaises(TypeError):
+                list(desk)
+
     def test_put_refused(self):
         desk = desk_of(a=A)
         before = state_of(desk)

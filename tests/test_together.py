@@ -8,9 +8,9 @@ from layoutsets.alike import always_alike, check_parting, parted
 from layoutsets.contexts import as_good, fewest, fits, front
 from layoutsets.costs import best, cost_of
 from layoutsets.desk import Desk
-from layoutsets.docs import doc_of, filled, hole, line, text
+from layoutsets.docs import doc_of, either, filled, hole, joined, line, text
 from layoutsets.errors import NotFound
-from layoutsets.layouts import joined_layout, moved, shown
+from layoutsets.layouts import check_layout, joined_layout, moved, shown
 from layoutsets.sets import LayoutSet
 from layoutsets.writing import read, written
 
@@ -218,7 +218,67 @@ class DeskTest(unittest.TestCase):
         self.assertEqual(desk.show("all"), ["sdf"])
 
 
+class NamesTest(unittest.TestCase):
+    def test_arguments_by_names(self):
+        a, layout = text(string="a"), ((0, "a"), (1, "b"))
+        self.assertTrue(line(flat=" ") == line(" ") and hole(name="x") == hole("x") and a.nested(steps=2) == a.nested(2))
+        self.assertTrue(either(first=a) == a and joined(a, a, between=a) == a + a + a and doc_of(form=a.form) == a)
+        self.assertTrue(filled(the_doc=hole("x"), x=a) == a)
+        self.assertEqual([check_layout(thing=layout), moved(k=0, x=layout)], [None, layout])
+        self.assertEqual(joined_layout(y=layout, x=((0, ""),)), layout)
+        self.assertEqual(shown(indent=1, layout=layout), ["a", "  b"])
+        rows = LayoutSet.of(layouts=[layout])
+        self.assertEqual([rows.rank(layout=layout), rows.within(other=LayoutSet(doc=a))], [0, False])
+        self.assertEqual(parted(other=a, one=a), None)
+        self.assertEqual(always_alike(other=a, one=a), None)
+        self.assertIs(check_parting(thing=({}, ((0, "a"),)), other=a, one=a + a), True)
+        self.assertEqual(cost_of(layout=layout, indent=1, column=2, width=3), (0, 2))
+        self.assertEqual(best(doc=a, indent=1, column=2, width=3), ((0, "a"),))
+        self.assertEqual([fits(context=(1, 2, 0), layout=layout), fewest(context=(1, 2, 0), doc=a)], [True, 1])
+        self.assertEqual([as_good(other=a, one=a), front(doc=a)], [None, [(1, 1)]])
+        self.assertTrue(read(string=written(doc=a)) == a)
+
+    def test_arguments_by_position(self):
+        a, layout = text("a"), ((0, "a"), (1, "b"))
+        self.assertEqual([moved(layout, 0), joined_layout(((0, ""),), layout)], [layout, layout])
+        self.assertEqual(shown(layout, 1), ["a", "  b"])
+        self.assertIs(check_parting(a, a + a, ({}, ((0, "a"),))), True)
+        self.assertEqual([fits(layout, (1, 2, 0)), fewest(a, (1, 2, 0)), as_good(a, a)], [True, 1, None])
+
+
 class AgainTest(unittest.TestCase):
+    def test_lists_and_dicts_are_new(self):
+        desk = Desk()
+        desk.put("a", text("a") + line())
+        calls = [
+            (lambda: shown(((0, "a"), (1, "b")), 1), ["a", "  b"]), (lambda: front(text("a")), [(1, 1)]),
+            (lambda: desk.show("a"), ["a", ""]), (lambda: list(desk.order()), ["a"]),
+        ]
+        for call, wanted in calls:
+            found = call()
+            self.assertEqual([found, found.__class__], [wanted, list])
+            found.append("more")
+            self.assertEqual(call(), wanted)
+        one, other = hole("x") + hole("y"), hole("y") + hole("x")
+        fillings, layout = always_alike(one, other)
+        names, kept = sorted(fillings), dict(fillings)
+        fillings.clear()
+        again, same = always_alike(one, other)
+        self.assertEqual([sorted(again), same], [names, layout])
+        self.assertTrue(all(again[name] == kept[name] for name in names))
+
+    def test_documents_and_sets_never_change(self):
+        for one, _ in small_docs(92, many=40, depth=4, most_ways=30):
+            other, s = one.group() | text("ab"), LayoutSet(one)
+            forms, rows = [one.form, other.form], list(s.walk())
+            desk = Desk()
+            desk.do(("put", "a", one), ("put", "b", other + hole("a")))
+            desk.whole("b"), desk.copy().undo(), desk.drop("a"), desk.undo(), list(desk.order())
+            answers(one), as_good(one, other), as_good(other, one), written(other), parted(one, other)
+            always_alike(one, other), s & LayoutSet(other), s | LayoutSet(other), s - LayoutSet(other), s == s
+            self.assertEqual([one.form, other.form, list(s.walk()), len(s)], [*forms, rows, len(rows)])
+            self.assertEqual([desk["a"].form, desk["b"].form], [forms[0], ("join", forms[1], ("hole", "a"))])
+
     def test_each_answer_is_the_same_again(self):
         for doc, _ in small_docs(91, many=60, depth=4, most_ways=30):
             form, string = doc.form, written(doc)
