@@ -18,7 +18,7 @@ GROUPS = [line().group() for _ in range(12)]
 
 
 def random_string(source, signs="abcdefgh~ "):
-    return "".join([source.choice(signs) for _ in range(40)])
+    return "".join(source.choices(signs, k=40))
 
 
 def random_layouts(seed, many, lines=60, indents=1000):

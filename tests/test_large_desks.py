@@ -24,7 +24,7 @@ NAMES = names(150)
 
 def random_string(source, most=40):
     """Some string of at most so many characters."""
-    return "".join([source.choice(SIGNS) for _ in range(source.randrange(most + 1))])
+    return "".join(source.choices(SIGNS, k=source.randrange(most + 1)))
 
 
 def random_layouts(seed, many, lines=60, indents=1000, first=40):
